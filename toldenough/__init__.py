@@ -1,0 +1,1 @@
+"""Toldenough: kinds of rules, and what examples settle."""

@@ -1,0 +1,40 @@
+"""What forms an object may have: integers, labels, lists, points and examples."""
+
+LEAST_PLACES = 1
+MOST_PLACES = 3
+
+
+def is_integer(thing):
+    """Tell whether the thing is an integer; a truth value is none."""
+    return isinstance(thing, int) and not isinstance(thing, bool)
+
+
+def is_label(thing):
+    """Tell whether the thing is True or False; an integer is no label."""
+    return isinstance(thing, bool)
+
+
+def is_row(thing):
+    """Tell whether the thing is a list or a tuple, which may stand for one another."""
+    return isinstance(thing, (list, tuple))
+
+
+def is_number_of_places(thing):
+    """Tell whether points may have so many places."""
+    return is_integer(thing) and LEAST_PLACES <= thing <= MOST_PLACES
+
+
+def is_point(thing, places):
+    """Tell whether the thing is a point of so many places."""
+    return is_row(thing) and len(thing) == places and all([is_integer(entry) for entry in thing])
+
+
+def is_example(thing, places):
+    """Tell whether the thing is a pair of a point of so many places and a label."""
+    return is_row(thing) and len(thing) == 2 and is_point(thing[0], places) and is_label(thing[1])
+
+
+def copied_example(example):
+    """Return the example as tuples, so that no later change of it has an effect."""
+    point, label = example
+    return (tuple(point), label)
