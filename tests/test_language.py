@@ -24,8 +24,15 @@ METHODS = set("""__init__ __eq__ __repr__ __str__ __len__ __enter__ __exit__ __c
     __ge__ __ne__ __add__ __sub__ __mul__ __and__ __or__ __xor__ __neg__ __invert__ __abs__ __bool__ __contains__
     __getitem__ __setitem__""".split())
 WORDS = re.compile(r"\b(type|typing|typing_extensions|enum|Enum|IntEnum|StrEnum|Flag|IntFlag|Generic|Protocol|ABC|"
-                   r"ABCMeta|namedtuple|NamedTuple|TypedDict|TYPE_CHECKING|abstractmethod|register|mro|elements|open|"
-                   r"input|law|version_info|with_traceback|add_note)\b|dataclass|overload|contextmanager|_wall|_WallAttr")
+                   r"ABCMeta|namedtuple|NamedTuple|TypedDict|TYPE_CHECKING|abstractmethod)\b|"
+                   r"dataclass|overload|contextmanager|_wall|_WallAttr")
+# These words may stand in strings, as "open" does, but they name nothing.
+NAMES = set("""register mro elements open input law version_info with_traceback add_note attrgetter breakpoint builtins
+    compile copyright credits delattr dir eval exec exit gc globals help id importlib license locals methodcaller os
+    quit type vars sys""".split())
+LAZY = {"range", "zip", "enumerate", "reversed"}
+VIEWS = {"items", "keys", "values"}
+TAKERS = {"list", "tuple", "dict", "sorted", "sum", "any", "all", "enumerate", "zip", "min", "max"}
 BARRED = (ast.Global, ast.AsyncFunctionDef, ast.AsyncFor, ast.AsyncWith, ast.Await, ast.Div)
 GROWING = {"append", "extend", "insert", "pop", "remove", "clear", "sort", "reverse", "update", "setdefault"}
 
@@ -119,6 +126,51 @@ class Code(unittest.TestCase):
             name = getattr(node, "name", None) or getattr(node, "id", None) or getattr(node, "attr", None)
             if isinstance(name, str) and name.startswith("__"):
                 self.assertIn(name, METHODS, place)
+
+    def test_names_that_are_not_used(self):
+        for place, node in nodes():
+            for part in ("name", "id", "attr", "arg", "asname"):
+                self.assertNotIn(getattr(node, part, None), NAMES, place)
+
+    def test_ranges_zips_and_views_are_iterated_at_once(self):
+        for path in FILES:
+            tree = tree_of(path)
+            parents = {child: node for node in ast.walk(tree) for child in ast.iter_child_nodes(node)}
+            for node in ast.walk(tree):
+                if not isinstance(node, ast.Call):
+                    continue
+                lazy = isinstance(node.func, ast.Name) and node.func.id in LAZY
+                view = isinstance(node.func, ast.Attribute) and node.func.attr in VIEWS
+                if lazy or view:
+                    parent = parents[node]
+                    taken = (isinstance(parent, (ast.For, ast.comprehension)) and parent.iter is node
+                             or isinstance(parent, ast.Call) and parent.args[0] is node
+                             and isinstance(parent.func, ast.Name) and parent.func.id in TAKERS)
+                    self.assertTrue(taken, f"{path.name}:{node.lineno}")
+
+    def test_sets_are_not_iterated_or_kept_in_objects(self):
+        for path in FILES:
+            tree = tree_of(path)
+            parents = {child: node for node in ast.walk(tree) for child in ast.iter_child_nodes(node)}
+            for node in ast.walk(tree):
+                place = f"{path.name}:{getattr(node, 'lineno', 0)}"
+                if isinstance(node, (ast.Set, ast.SetComp)) or (
+                        isinstance(node, ast.Call) and isinstance(node.func, ast.Name) and node.func.id == "set"):
+                    parent = parents[node]
+                    if isinstance(parent, ast.Assign):
+                        self.assertIsInstance(parent.targets[0], ast.Name, place)
+                    elif isinstance(parent, ast.Call):
+                        self.assertIn(getattr(parent.func, "id", None), ("sorted", "len"), place)
+                    else:
+                        self.assertIsInstance(parent, ast.Compare, place)
+
+    def test_each_method_of_the_interface_stands_in_its_class(self):
+        for name in ("Halves", "Boxes", "Rising", "Flats", "Turns", "Contrary", "Pair"):
+            found = {part.name for node in tree_of(FOLDER / "kinds.py").body
+                     if isinstance(node, ast.ClassDef) and node.name == name
+                     for part in node.body if isinstance(part, ast.FunctionDef)}
+            self.assertLessEqual({"__init__", "has", "reach", "text", "__invert__", "__and__", "__or__", "__add__",
+                                  "__eq__"}, found, name)
 
     def test_builtins(self):
         known = set(dir(__builtins__)) if not isinstance(__builtins__, dict) else set(__builtins__)

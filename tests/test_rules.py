@@ -6,25 +6,11 @@ import itertools
 import unittest
 from fractions import Fraction
 
+from objects import as_lists, mixed
 from toldenough import rules
 from toldenough.rules import says
 
 BIG = 10 ** 15 - 1
-
-
-def as_lists(thing):
-    """Return the thing with a list for each tuple in it."""
-    if isinstance(thing, (list, tuple)):
-        return [as_lists(part) for part in thing]
-    return thing
-
-
-def mixed(thing, depth=0):
-    """Return the thing with a list for each tuple at every other depth."""
-    if isinstance(thing, (list, tuple)):
-        parts = [mixed(part, depth + 1) for part in thing]
-        return parts if depth % 2 else tuple(parts)
-    return thing
 
 
 class Cases(unittest.TestCase):

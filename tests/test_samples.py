@@ -4,7 +4,7 @@ import copy
 import inspect
 import unittest
 
-from objects import any_objects
+from objects import any_objects, shape
 from toldenough.errors import BadExample, BadIndex, BadPlaces, UnlikePlaces
 from toldenough.samples import Sample
 
@@ -13,13 +13,6 @@ PAIRS = [((0, 0), True), ((2, 2), True), ((5, 1), False), ((0, 0), True), ((0, 0
 
 def three():
     return Sample(1, [((1,), True), ((4,), False), ((0,), False)])
-
-
-def shape(thing):
-    """Return the thing with the class of each of its parts, as 1 == True in Python."""
-    if isinstance(thing, (list, tuple)):
-        return (thing.__class__.__name__, [shape(part) for part in thing])
-    return (thing.__class__.__name__, thing)
 
 
 class Interface(unittest.TestCase):
