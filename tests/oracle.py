@@ -165,3 +165,62 @@ def cases(seed, count, most_examples):
         reach = chance.choice((1, 1, 2, 3, 99))
         found.append((spec, places, random_pairs(chance, places, chance.randint(0, most_examples), reach), reach))
     return found
+
+
+def says_all(spec, one, other):
+    """Tell whether no rule fits all of one and not some example of other."""
+    return first_parting(spec, one, other) is None
+
+
+def first_parting(spec, one, other):
+    """Return the first index of an example of other that some rule that fits one does not fit, or None."""
+    for index, (point, label) in enumerate(other):
+        if fits(spec, [*one, (point, not label)]):
+            return index
+    return None
+
+
+def labelings(spec, points):
+    """Return the ascending list of the labels that rules give to the points."""
+    return [labels for labels in itertools.product((False, True), repeat=len(points))
+            if fits(spec, zip(points, labels))]
+
+
+def shattered(spec, points):
+    """Return the parts of the points that have all labelings."""
+    rows = labelings(spec, points)
+    return [part for part in parts(len(points)) if len({tuple(taken(row, part)) for row in rows}) == 2 ** len(part)]
+
+
+def teaching(rows, labels):
+    """Return the first part by whose labels the labels are told from all other rows."""
+    return next(part for part in parts(len(labels))
+                if [row for row in rows if taken(row, part) == taken(labels, part)] == [labels])
+
+
+def random_points(chance, places, many, reach):
+    """Return so many unlike points, or fewer."""
+    return list(dict.fromkeys(random_point(chance, places, reach) for _ in range(many)))
+
+
+def likely_pairs(chance, places, many, reach):
+    """Return so many examples that rules of most kinds fit but for a few: yes in a range, or above a plane."""
+    low, high = sorted(chance.randint(-reach, reach) for _ in range(2))
+    turn = chance.choice((1, -1))
+    pairs = []
+    for _ in range(many):
+        point = random_point(chance, places, reach)
+        label = low <= turn * point[0] <= high if chance.random() < 0.5 else low <= turn * point[0]
+        pairs.append((point, label))
+    return pairs
+
+
+def point_cases(seed, count):
+    """Return tuples (kind as a tuple, points) made from the seed, kinds of all forms and up to five points among them."""
+    chance = random.Random(seed)
+    found = []
+    for _ in range(count):
+        places = chance.randint(1, 3)
+        spec = random_spec(chance, places, chance.choice((1, 1, 2, 2, 3)))
+        found.append((spec, random_points(chance, places, chance.randint(0, 5), chance.choice((1, 2, 3, 99)))))
+    return found

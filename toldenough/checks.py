@@ -21,3 +21,13 @@ def check_lies(lies):
     """Raise BadLies unless the object is an integer from 0 on."""
     if not is_integer(lies) or lies < 0:
         raise BadLies(lies)
+
+
+def checked_points(kind, points):
+    """Return the points as a list of tuples; each is a point of the places of the kind, and occurs once."""
+    checked = []
+    for thing in points:
+        if not is_point(thing, kind.places) or tuple(thing) in checked:
+            raise BadPoint(thing)
+        checked.append(tuple(thing))
+    return checked

@@ -1,5 +1,6 @@
 """Kinds of rules: plain ones, and kinds put together of others."""
 
+from toldenough.crossings import cuts_of_hulls, cuts_of_orders
 from toldenough.errors import BadMost, BadPlaces, UnlikePlaces
 from toldenough.forms import is_form, is_integer, is_integer_or_none, is_label, is_number_of_places, is_point
 from toldenough.forms import is_row, is_row_of
@@ -38,6 +39,10 @@ class Halves:
     def proves(self, thing, yeses, noes):
         """Tell whether the thing is a certificate that no rule fits these examples."""
         return is_meet(thing, yeses, noes)
+
+    def cuts(self, points, point, step):
+        """Return the integers t at which what rules say of point + t * step can change."""
+        return cuts_of_hulls(points, point, step)
 
     def __invert__(self):
         return Contrary(self)
@@ -84,6 +89,10 @@ class Boxes:
         """Tell whether the thing is a certificate that no rule fits these examples."""
         return is_between(thing, self.places, yeses, noes)
 
+    def cuts(self, points, point, step):
+        """Return the integers t at which what rules say of point + t * step can change."""
+        return cuts_of_orders(points, point, step)
+
     def __invert__(self):
         return Contrary(self)
 
@@ -129,6 +138,10 @@ class Rising:
         """Tell whether the thing is a certificate that no rule fits these examples."""
         return is_above(thing, yeses, noes)
 
+    def cuts(self, points, point, step):
+        """Return the integers t at which what rules say of point + t * step can change."""
+        return cuts_of_orders(points, point, step)
+
     def __invert__(self):
         return Contrary(self)
 
@@ -173,6 +186,10 @@ class Flats:
     def proves(self, thing, yeses, noes):
         """Tell whether the thing is a certificate that no rule fits these examples."""
         return is_span(thing, yeses, noes)
+
+    def cuts(self, points, point, step):
+        """Return the integers t at which what rules say of point + t * step can change."""
+        return cuts_of_hulls(points, point, step)
 
     def __invert__(self):
         return Contrary(self)
@@ -223,6 +240,10 @@ class Turns:
     def proves(self, thing, yeses, noes):
         """Tell whether the thing is a certificate that no rule fits these examples."""
         return is_turning(thing, self.most, yeses, noes)
+
+    def cuts(self, points, point, step):
+        """Return the integers t at which what rules say of point + t * step can change."""
+        return cuts_of_orders(points, point, step)
 
     def __invert__(self):
         return Contrary(self)
