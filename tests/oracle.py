@@ -216,7 +216,7 @@ def likely_pairs(chance, places, many, reach):
 
 
 def point_cases(seed, count):
-    """Return tuples (kind as a tuple, points) made from the seed, kinds of all forms and up to five points among them."""
+    """Return tuples (kind as a tuple, points) made from the seed: kinds of all forms, none to five points."""
     chance = random.Random(seed)
     found = []
     for _ in range(count):
@@ -224,3 +224,29 @@ def point_cases(seed, count):
         spec = random_spec(chance, places, chance.choice((1, 1, 2, 2, 3)))
         found.append((spec, random_points(chance, places, chance.randint(0, 5), chance.choice((1, 2, 3, 99)))))
     return found
+
+
+def sides(rows, index):
+    """Return the rows with no and with yes at the index."""
+    return tuple(row for row in rows if not row[index]), tuple(row for row in rows if row[index])
+
+
+@lru_cache(maxsize=None)
+def asks(rows, prices):
+    """Return the least cost of asking until one of the rows is left."""
+    ways = [(price, sides(rows, index)) for index, price in enumerate(prices)]
+    return min([price + max(asks(noes, prices), asks(yeses, prices))
+                for price, (noes, yeses) in ways if noes and yeses], default=0)
+
+
+@lru_cache(maxsize=None)
+def mistakes(rows):
+    """Return how many guesses are wrong if each point, guess and label is chosen as well as can be."""
+    worst = 0
+    for index in range(len(rows[0])):
+        noes, yeses = sides(rows, index)
+        if noes and yeses:
+            guess_no = max(mistakes(noes), 1 + mistakes(yeses))
+            guess_yes = max(1 + mistakes(noes), mistakes(yeses))
+            worst = max(worst, min(guess_no, guess_yes))
+    return worst

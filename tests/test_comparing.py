@@ -23,7 +23,7 @@ def mistakes(rule, pairs):
 
 
 def compared(seed, count, most=6):
-    """Return tuples (kind as a tuple, places, examples, other examples), the others often a part of, or near, the one."""
+    """Return tuples (kind as a tuple, places, examples, others), the others often a part of these, or like them."""
     chance = random.Random(seed)
     found = []
     for spec, places, pairs, reach in oracle.cases(seed, count, most):

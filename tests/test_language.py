@@ -34,6 +34,11 @@ LAZY = {"range", "zip", "enumerate", "reversed"}
 VIEWS = {"items", "keys", "values"}
 TAKERS = {"list", "tuple", "dict", "sorted", "sum", "any", "all", "enumerate", "zip", "min", "max"}
 BARRED = (ast.Global, ast.AsyncFunctionDef, ast.AsyncFor, ast.AsyncWith, ast.Await, ast.Div)
+OF_VALUES = set("""append clear copy count endswith extend find get index insert isalnum isalpha isdigit islower isspace
+    isupper items join keys ljust lower lstrip partition pop remove replace reverse rfind rjust rpartition rsplit rstrip
+    setdefault split splitlines startswith strip update upper values zfill bit_length title capitalize swapcase casefold
+    center expandtabs removeprefix removesuffix rindex isascii isdecimal isnumeric istitle isidentifier isprintable add
+    discard""".split())
 GROWING = {"append", "extend", "insert", "pop", "remove", "clear", "sort", "reverse", "update", "setdefault"}
 
 
@@ -184,6 +189,31 @@ class Code(unittest.TestCase):
             for node in tree_of(path).body:
                 if isinstance(node, (ast.FunctionDef, ast.ClassDef)):
                     self.assertNotIn(node.name, known, path.name)
+
+    def test_methods_are_own_ones_or_those_of_builtin_values(self):
+        own = {part.name for _, node in nodes() if isinstance(node, ast.ClassDef)
+               for part in node.body if isinstance(part, ast.FunctionDef)}
+        for place, node in nodes():
+            if isinstance(node, ast.Call) and isinstance(node.func, ast.Attribute):
+                self.assertIn(node.func.attr, own | OF_VALUES, place)
+                if node.func.attr in OF_VALUES:
+                    self.assertFalse(node.keywords, place)
+
+    def test_no_name_is_a_method_and_an_attribute_and_no_attribute_hides_a_method_of_a_value(self):
+        methods = {part.name for _, node in nodes() if isinstance(node, ast.ClassDef)
+                   for part in node.body if isinstance(part, ast.FunctionDef)}
+        for place, node in nodes():
+            if isinstance(node, ast.Attribute) and isinstance(node.ctx, ast.Store):
+                self.assertNotIn(node.attr, methods, place)
+                self.assertNotIn(node.attr, {"items", "keys", "values", "pop", "update", "append", "clear", "extend",
+                                             "insert", "remove", "reverse", "setdefault", "sort", "args"}, place)
+
+    def test_what_stands_in_finally(self):
+        for place, node in nodes():
+            if isinstance(node, ast.Try):
+                for row in node.finalbody:
+                    self.assertIsInstance(row, ast.Assign, place)
+                    self.assertFalse([part for part in ast.walk(row) if isinstance(part, (ast.Call, ast.Subscript))])
 
     def test_no_generator_expression_beside_an_equality(self):
         for place, node in nodes():

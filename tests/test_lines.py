@@ -48,7 +48,8 @@ class Lines(unittest.TestCase):
         near = [end + by for end in ends for by in (-1, 0, 1)]
         within = [(first + last) // 2 for first, last, _ in stretches if first is not None and last is not None]
         for t in {0, *near, *within, *others, *[far for k in (2, 9, 20, 40) for far in (10 ** k, -10 ** k)]}:
-            self.assertEqual(word_at(stretches, t), settled(kind, sample, at(point, step, t), lies=lies), (t, stretches))
+            word = settled(kind, sample, at(point, step, t), lies=lies)
+            self.assertEqual(word_at(stretches, t), word, (t, stretches))
         return stretches
 
     def check_form(self, stretches):

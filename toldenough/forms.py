@@ -2,6 +2,7 @@
 
 LEAST_PLACES = 1
 MOST_PLACES = 3
+LONGEST_WORD = 8
 
 
 def is_integer(thing):
@@ -38,6 +39,16 @@ def is_number_of(thing, table):
     """Tell whether the thing is an integer that is a key of the table."""
     # The form comes first: True equals the key 1, and is none; a list cannot be looked up.
     return is_integer(thing) and thing in table
+
+
+def is_index_below(thing, many):
+    """Tell whether the thing is an index of one of so many things."""
+    return is_integer(thing) and 0 <= thing < many
+
+
+def is_word(thing):
+    """Tell whether the thing is a string of one to eight letters a to z."""
+    return isinstance(thing, str) and 1 <= len(thing) <= LONGEST_WORD and all(["a" <= sign <= "z" for sign in thing])
 
 
 def is_number_of_places(thing):

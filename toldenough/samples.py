@@ -1,7 +1,7 @@
 """Samples: lists of examples of points of so many places."""
 
 from toldenough.errors import BadExample, BadIndex, BadPlaces, UnlikePlaces
-from toldenough.forms import copied_example, is_example, is_integer, is_number_of_places, is_row
+from toldenough.forms import copied_example, is_example, is_index_below, is_number_of_places, is_row
 
 
 class Sample:
@@ -49,7 +49,7 @@ class Sample:
         checked = []
         for thing in indexes:
             # The form comes first: True equals the index 1, and is none.
-            if not is_integer(thing) or not 0 <= thing < len(self._pairs) or thing in checked:
+            if not is_index_below(thing, len(self._pairs)) or thing in checked:
                 raise BadIndex(thing)
             checked.append(thing)
         return checked
